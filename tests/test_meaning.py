@@ -67,6 +67,7 @@ class Told(Case):
         for formula in (Sum("i", N, I), Sum("i", X, Sum("j", Name("z"), J)), Sum("i", X, Sum("j", Y, I)) + Sum("i", Number(1), I),
                         Sum("i", Number(10000), I) - Sum("i", Number(10001), I), Sum("i", Number(10 ** 29), X),
                         Sum("i", Number(2), Sum("j", Number(2 ** 63), J)),
+                        Sum("i", Number(2 ** 63), Sum("j", I, J)), Sum("i", Number(20001), Sum("j", Number(0), J)),
                         Number(0) * Sum("i", N, Number(0))):
             self.fails(TooLong, None, told, formula, 64, values)
             self.fails(TooLong, None, turns, formula, 64, values)

@@ -3,6 +3,7 @@
 from samewords.checks import is_name
 from samewords.errors import BadValue, TooLong, TooMany
 from samewords.formulas import Call, Formula, Name, Number, Sum
+from samewords.laying import new_name
 from samewords.programs import Choice, Program, run
 from tests.helper import WORDS, X, Y, Case, any_things, by_lot, inputs_of, not_integers
 
@@ -205,6 +206,15 @@ class Laying(Case):
         for letter in letters:
             value = Call(letter, [value, X, X, Sum("p", N, Sum("q", N, Name("p")))])
         self.clashing(Sum("i", N, value), defs)
+
+    def test_words_of_the_texts_are_no_new_names(self):
+        letters = "abcdefghijklmnopqrstuvwxyz"
+        names = list(letters) + [one + other for one in letters for other in letters]
+        for word, following in (("if", "ig"), ("in", "io")):
+            self.assertEqual(new_name(names[:names.index(word)]), following)
+        self.assertEqual(new_name([]), "a")
+        self.assertEqual(new_name(["a", "c"]), "b")
+        self.assertEqual(new_name(names), "aaa")
 
     def test_by_lot(self):
         lot = by_lot(61)

@@ -306,6 +306,14 @@ class Reckoning(Case):
         self.fails(TooMany, None, lambda: Table(8, ("a", "b", "c"), {(a, b, c): 1 for a in range(10) for b in range(10)
                                                                      for c in range(4)}) + Table(8, ("a",), {(10,): 1}))
 
+    def test_many_products_that_are_left_out(self):
+        # Behind leaving out few rows are left, though far more than 400 pairs of rows meet.
+        rows = {(a, b): 16 for a in range(13) for b in range(13)}
+        one = Table(8, ("a", "b"), {**rows, (0, 0): 1})
+        self.assertEqual(len((one * Table(8, ("c", "d"), {**rows, (0, 0): 1})).rows()), 2 * 168 + 1)
+        self.assertEqual((Table(8, ("a",), {(12,): 128, (0,): 1}) * Table(8, ("a",), {(12,): 128, (0,): 1})).rows(),
+                         [((), 1)])
+
     def test_many_rows_with_no_product(self):
         rows = {(a, b): 16 for a in range(13) for b in range(13)}
         product = Table(8, ("a", "b"), rows) * Table(8, ("c", "d"), rows)
@@ -355,6 +363,9 @@ class Reckoning(Case):
                 values = {"y": y, "x": word % 2 ** width}
                 self.assertEqual(slow_word_at(put, values), slow_word_at(made, values))
             self.assertEqual(made.with_word("z", word), made)
+        high = Table(64, ("x", "y"), {(number, 1): 3 + number for number in range(13)})
+        for word in (3, 12, MOST):
+            self.assertEqual(high.with_word("x", word).word_at({"y": 1}), high.word_at({"x": word, "y": 1}))
 
     def test_with_word_wrong(self):
         made = Table(8, ("x",), {(1,): 1})
