@@ -31,6 +31,16 @@ def is_word(thing, width):
     return is_integer(thing) and 0 <= thing < 1 << width
 
 
+def is_set_number(thing):
+    """Tell whether a thing is an integer that an operation or an instruction may set."""
+    return is_word(thing, MOST_WIDTH)
+
+
+def is_shift(thing):
+    """Tell whether a thing is an integer that something may be shifted by."""
+    return is_integer(thing) and 0 <= thing <= MOST_SHIFT
+
+
 def is_told_input(thing, names, width):
     """Tell whether a thing is a dict that gives a word for just these names."""
     if not isinstance(thing, dict) or len(thing) != len(names):
@@ -52,7 +62,7 @@ def check_width(thing):
 
 def check_shift(thing):
     """Raise BadNumber for what no formula or table can be shifted by."""
-    if not is_integer(thing) or not 0 <= thing <= MOST_SHIFT:
+    if not is_shift(thing):
         raise BadNumber(thing)
 
 

@@ -115,13 +115,19 @@ def degrees(formula):
 
 def text_degrees(formula):
     """Return the degrees of a formula without calls, by ascending names."""
+    return degrees_with(formula, {})
+
+
+def degrees_with(formula, known):
+    """Return the degrees of a formula, where known has the degrees of what some names stand for."""
     if formula.kind == "number":
         return {}
     if formula.kind == "name":
-        return {formula.things[0]: 1}
+        name = formula.things[0]
+        return known.get(name, {name: 1})
     if formula.kind == "sum":
-        return sum_degrees(formula)
-    inner = [text_degrees(one) for one in inner_formulas(formula)]
+        return sum_degrees(formula, known)
+    inner = [degrees_with(one, known) for one in inner_formulas(formula)]
     if len(inner) == 1:
         return inner[0]
     if formula.kind == "times":
@@ -129,10 +135,10 @@ def text_degrees(formula):
     return greater_degrees(*inner)
 
 
-def sum_degrees(formula):
-    """Return the degrees of a sum."""
+def sum_degrees(formula, known):
+    """Return the degrees of a sum; none of the known names is an index or a bound."""
     index, below, body = formula.things
-    inside = text_degrees(body)
+    inside = degrees_with(body, known)
     found = {name: inside[name] for name in inside if name != index}
     if below.kind == "name":
         bound = below.things[0]
@@ -154,13 +160,13 @@ def is_small(thing):
     """Tell whether a thing is a small formula without a call."""
     if not isinstance(thing, Formula) or has_call(thing):
         return False
-    return are_small_degrees(text_degrees(thing)) and has_small_bodies(thing)
+    return are_small_degrees(text_degrees(thing)) and has_small_bodies(thing, {})
 
 
 def is_small_pair(one, other):
     """Tell whether the difference of two formulas without calls would be small."""
     together = greater_degrees(text_degrees(one), text_degrees(other))
-    return are_small_degrees(together) and has_small_bodies(one) and has_small_bodies(other)
+    return are_small_degrees(together) and has_small_bodies(one, {}) and has_small_bodies(other, {})
 
 
 def are_small_degrees(found):
@@ -175,8 +181,8 @@ def are_small_degrees(found):
     return rows <= MOST_ROWS
 
 
-def has_small_bodies(formula):
-    """Tell whether the bodies of all sums in it are small."""
-    if formula.kind == "sum" and not are_small_degrees(text_degrees(formula.things[2])):
+def has_small_bodies(formula, known):
+    """Tell whether the bodies of all sums in it are small, with known as in degrees_with."""
+    if formula.kind == "sum" and not are_small_degrees(degrees_with(formula.things[2], known)):
         return False
-    return all([has_small_bodies(one) for one in inner_formulas(formula)])
+    return all([has_small_bodies(one, known) for one in inner_formulas(formula)])

@@ -157,23 +157,32 @@ def table(formula, width):
     check_width(width)
     if not is_small(formula):
         raise TooMany()
-    return table_of_small(formula, width)
+    return table_of_small(formula, width, {})
 
 
-def table_of_small(formula, width):
-    """Return the table of a small formula; all within it is small, too, so that no table is too large."""
+def table_of_name(width, name):
+    """Return the table of an input."""
+    return Table(width, (name,), {(1,): 1})
+
+
+def table_of_small(formula, width, known):
+    """Return the table of a formula that is small, where known has the tables that some names stand for.
+
+    All within it is small, too, so that no table is too large.
+    """
     if formula.kind == "number":
         return made(width, (), {(): formula.things[0]})
     if formula.kind == "name":
-        return Table(width, formula.things, {(1,): 1})
+        name = formula.things[0]
+        return known[name] if name in known else table_of_name(width, name)
     if formula.kind == "sum":
-        return table_of_sum(formula, width)
-    one = table_of_small(formula.things[0], width)
+        return table_of_sum(formula, width, known)
+    one = table_of_small(formula.things[0], width, known)
     if formula.kind == "negative":
         return -one
     if formula.kind == "shift":
         return one << formula.things[1]
-    other = table_of_small(formula.things[1], width)
+    other = table_of_small(formula.things[1], width, known)
     if formula.kind == "plus":
         return one + other
     if formula.kind == "minus":
@@ -181,10 +190,10 @@ def table_of_small(formula, width):
     return one * other
 
 
-def table_of_sum(formula, width):
-    """Return the table of a small sum."""
+def table_of_sum(formula, width, known):
+    """Return the table of a small sum; none of the known names is an index or a bound."""
     index, below, body = formula.things
-    inner = table_of_small(body, width)
+    inner = table_of_small(body, width, known)
     if below.kind == "name":
         return inner.sum_below(index, below.things[0])
     # A number as the bound adds nothing to the degrees, so that no C(n, 13) may stand here as a row.

@@ -6,6 +6,7 @@ import random
 import unittest
 
 from samewords.errors import SameError
+from samewords.flows import Flow
 from samewords.formulas import Call, Formula, Name, Number, Sum
 from samewords.programs import Choice, Program
 from samewords.tables import Table
@@ -28,7 +29,14 @@ def any_things():
     return [None, True, False, 0, 1, -1, 65, 10 ** 40, 10 ** 5000, "", "x", "sum", "A", "x y", "x\n", "abcdefghi",
             "x1", "~" * 10, [], ["x"], [X], (), ("x",), (1,), (X,), {}, {"x": 1}, {(1,): 1}, {1: {2: []}},
             nested(20), ({"x": [(None,)]},), Number(3), X, CALL, X + CALL, Sum("i", Number(3), X),
-            Table(8, ("x",), {(1,): 1}), Choice(X, X, X, X), Program(8, ("x",), (), (), ("x",)), SameError()]
+            Table(8, ("x",), {(1,): 1}), Choice(X, X, X, X), Program(8, ("x",), (), (), ("x",)), SameError(),
+            Flow([("input", "x")], [0])]
+
+
+def large_things():
+    """Things that are very large, for what judges."""
+    return [10 ** 5000, -10 ** 5000, "x" * 10 ** 5, [None] * 10 ** 5, (0,) * 10 ** 5, [()] * 10 ** 5,
+            dict.fromkeys(range(10 ** 5), 1), [(1,)] * 10 ** 5, ((0,) * 10 ** 5, (0,) * 10 ** 5)]
 
 
 def is_plain_integer(thing):
@@ -122,6 +130,66 @@ def slow_told(formula, width, values):
     return word % modulus, done + more
 
 
+def slow_word(formula, width, values, defs):
+    """The word of a formula with calls: a call is worked out by the words of its things."""
+    kind, things = formula.kind, formula.things
+    if kind == "call":
+        words = [slow_word(thing, width, values, defs) for thing in things[1]]
+        parameters, body = defs[things[0]]
+        return slow_word(body, width, dict(zip(parameters, words)), defs)
+    if kind == "number":
+        return things[0] % 2 ** width
+    if kind == "name":
+        return values[things[0]]
+    if kind == "sum":
+        index, below, body = things
+        return sum(slow_word(body, width, {**values, index: turn}, defs)
+                   for turn in range(slow_word(below, width, values, defs))) % 2 ** width
+    word = slow_word(things[0], width, values, defs)
+    if kind == "negative":
+        return -word % 2 ** width
+    if kind == "shift":
+        return (word << things[1]) % 2 ** width
+    other = slow_word(things[1], width, values, defs)
+    return {"plus": word + other, "minus": word - other, "times": word * other}[kind] % 2 ** width
+
+
+def slow_words(program, values):
+    """The words of the inputs and of all lets, straight by the document."""
+    defs = {name: (parameters, body) for name, parameters, body in program.defs}
+    words = dict(values)
+    for name, value in program.lets:
+        if isinstance(value, Choice):
+            left = slow_word(value.left, program.width, words, defs)
+            right = slow_word(value.right, program.width, words, defs)
+            value = value.same if left == right else value.other
+        words[name] = slow_word(value, program.width, words, defs)
+    return words
+
+
+def slow_run(program, values):
+    """The words of the outs, straight by the document."""
+    words = slow_words(program, values)
+    return {name: words[name] for name in program.outs}
+
+
+def slow_degree(formula, name, lets):
+    """The degree by the text in an input, where the names of lets stand for their formulas."""
+    kind, things = formula.kind, formula.things
+    if kind == "number":
+        return 0
+    if kind == "name":
+        return slow_degree(lets[things[0]], name, lets) if things[0] in lets else int(things[0] == name)
+    if kind == "sum":
+        index, below, body = things
+        inside = slow_degree(body, name, lets) if name != index else 0
+        return inside + (slow_degree(body, index, lets) + 1 if below == Name(name) else 0)
+    if kind in ("negative", "shift"):
+        return slow_degree(things[0], name, lets)
+    one, other = slow_degree(things[0], name, lets), slow_degree(things[1], name, lets)
+    return one + other if kind == "times" else max(one, other)
+
+
 def slow_choose(x, e):
     found = 1
     for at in range(e):
@@ -171,6 +239,22 @@ def formula_by_lot(lot, names, deep, bounds=(), indexes="ijk"):
     if choice == 7:
         return one - other
     return one * other
+
+
+def plain_by_lot(lot, width, many=5):
+    """A plain program, some of whose lets are equal, bare, unused or always of the same word."""
+    defs = [("f", ("p", "q"), Sum("k", Name("p"), Name("q") + Name("k"))), ("g", ("p",), Name("p") * Number(2))]
+    lets = []
+    for at in range(many):
+        names = ["x", "n"] + [name for name, _ in lets]
+        one = Name(lot.choice(names))
+        lets.append(("abcdehl"[at], lot.choice([
+            lambda: one, lambda: Number(lot.randrange(4)), lambda: one - one, lambda: one + Number(0),
+            lambda: one << lot.randrange(3), lambda: Call("f", [Name(lot.choice("xn")), one]),
+            lambda: Call("g", [one]), lambda: one * X, lambda: lets[-1][1] if lets else X,
+            lambda: formula_by_lot(lot, names, 2, ["x", "n"]), lambda: formula_by_lot(lot, names, 1, ["x", "n"])])()))
+    outs = lot.sample([name for name, _ in lets] + ["n"], lot.randrange(1, 3))
+    return Program(width, ["x", "n"], defs, lets, outs)
 
 
 class Case(unittest.TestCase):

@@ -12,7 +12,7 @@ LIBRARY = {"heapq": {"heappush", "heappop", "heapify", "heapreplace", "heappushp
            "collections": {"defaultdict", "deque"}, "__future__": {"annotations"}}
 BUILTINS = set("""len range enumerate zip min max sum abs sorted reversed int str bool list tuple dict set isinstance ord
 repr any all divmod Exception ValueError TypeError KeyError IndexError LookupError NotImplemented""".split())
-SPECIAL = set("""__init__ __eq__ __repr__ __str__ __len__ __add__ __sub__ __mul__ __lshift__ __neg__""".split())
+SPECIAL = set("""__init__ __eq__ __len__ __add__ __sub__ __mul__ __lshift__ __neg__""".split())
 WORDS = set("""type typing enum Enum Flag Generic Protocol ABC namedtuple register mro elements open input law eval exec
 compile id os exit quit vars dir help globals locals super""".split())
 INTERFACE = {
@@ -20,7 +20,13 @@ INTERFACE = {
     "meaning": "told turns degrees is_small", "tables": "Table table table_of_box described",
     "shapes": "formula_of is_sumless sumless",
     "verdicts": "alike apart same_bits hangs swing is_swing constant",
-    "boxes": "box_paper is_box_paper is_apart", "programs": "Program Choice run is_plain"}
+    "boxes": "box_paper is_box_paper is_apart", "programs": "Program Choice run is_plain",
+    "plain": "program_degrees tables programs_alike programs_apart is_programs_apart",
+    "leaving": "without idle classes constants lean",
+    "agreeing": "profile verdict nearest class_kind class_paper is_class_paper profile_of meets",
+    "texts": "write_formula read_formula", "listings": "write_program read_program", "flows": "Flow flow_of",
+    "orders": "is_order held need laying crowd is_laying is_crowd", "floors": "fewest best_order floor is_floor",
+    "codes": "is_code code_inputs code_outs"}
 
 
 def trees():
@@ -82,9 +88,22 @@ class Language(unittest.TestCase):
             self.assertNotIn("_", read)
 
     def test_what_is_not_used(self):
-        barred = (ast.GeneratorExp, ast.Lambda, ast.Try, ast.With, ast.Global, ast.Yield, ast.YieldFrom, ast.AugAssign,
+        barred = (ast.GeneratorExp, ast.Lambda, ast.With, ast.Global, ast.Yield, ast.YieldFrom, ast.AugAssign,
                   ast.Div, ast.AsyncFunctionDef, ast.Match, ast.Set, ast.SetComp, ast.Delete, ast.Await)
         self.assertEqual(nodes(barred), [])
+
+    def test_own_errors_alone_are_caught(self):
+        for name, node in nodes(ast.Try):
+            self.assertEqual([handler.type.id for handler in node.handlers], ["SameError"], name)
+            self.assertEqual(node.orelse + node.finalbody, [], name)
+
+    def test_what_is_read_at_module_level_is_not_changed(self):
+        for path, tree in trees().items():
+            for node in tree.body:
+                if isinstance(node, ast.Assign):
+                    self.assertEqual(len(node.targets), 1, path.name)
+                    held = node.value.values if isinstance(node.value, ast.Dict) else getattr(node.value, "elts", [])
+                    self.assertFalse(any(isinstance(one, (ast.List, ast.Dict)) for one in held), path.name)
 
     def test_exponents_are_literals(self):
         for name, node in nodes(ast.BinOp):

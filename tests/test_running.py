@@ -5,7 +5,7 @@ from samewords.errors import BadValue, TooLong, TooMany
 from samewords.formulas import Call, Formula, Name, Number, Sum
 from samewords.laying import new_name
 from samewords.programs import Choice, Program, run
-from tests.helper import WORDS, X, Y, Case, any_things, by_lot, inputs_of, not_integers
+from tests.helper import WORDS, X, Case, any_things, by_lot, inputs_of, not_integers, slow_run
 
 N = Name("n")
 I = Name("i")
@@ -13,43 +13,6 @@ J = Name("j")
 P = Name("p")
 Q = Name("q")
 A = Name("a")
-
-
-def slow_word(formula, width, values, defs):
-    """The word of a formula with calls: a call is worked out by the words of its things."""
-    kind, things = formula.kind, formula.things
-    if kind == "call":
-        words = [slow_word(thing, width, values, defs) for thing in things[1]]
-        parameters, body = defs[things[0]]
-        return slow_word(body, width, dict(zip(parameters, words)), defs)
-    if kind == "number":
-        return things[0] % 2 ** width
-    if kind == "name":
-        return values[things[0]]
-    if kind == "sum":
-        index, below, body = things
-        return sum(slow_word(body, width, {**values, index: turn}, defs)
-                   for turn in range(slow_word(below, width, values, defs))) % 2 ** width
-    word = slow_word(things[0], width, values, defs)
-    if kind == "negative":
-        return -word % 2 ** width
-    if kind == "shift":
-        return (word << things[1]) % 2 ** width
-    other = slow_word(things[1], width, values, defs)
-    return {"plus": word + other, "minus": word - other, "times": word * other}[kind] % 2 ** width
-
-
-def slow_run(program, values):
-    """The words of the outs, straight by the document."""
-    defs = {name: (parameters, body) for name, parameters, body in program.defs}
-    words = dict(values)
-    for name, value in program.lets:
-        if isinstance(value, Choice):
-            left = slow_word(value.left, program.width, words, defs)
-            right = slow_word(value.right, program.width, words, defs)
-            value = value.same if left == right else value.other
-        words[name] = slow_word(value, program.width, words, defs)
-    return {name: words[name] for name in program.outs}
 
 
 def indexes(formula, around=()):

@@ -1,0 +1,88 @@
+"""Codes: rows of instructions of the machine, and what is wrong with what is none."""
+
+from samewords.checks import is_integer, is_name, is_set_number, is_shift
+from samewords.errors import BadCode
+
+MOST_INSTRUCTIONS = 2000
+MOST_LOOPS = 3
+FORMS = {"input": ("written", "name"), "set": ("written", "number"), "copy": ("written", "read"),
+         "add": ("written", "read", "read"), "sub": ("written", "read", "read"), "mul": ("written", "read", "read"),
+         "neg": ("written", "read"), "shl": ("written", "read", "shift"), "store": ("slot", "read"),
+         "load": ("written", "slot"), "out": ("output", "read"), "loop": ("counter", "read"), "again": ()}
+# Below what number those things stand that are neither names nor numbers to set or to shift by.
+ENDS = {"written": 16, "read": 16, "counter": 16, "slot": 256, "output": 8}
+
+
+def is_code(thing):
+    """Tell whether a thing is a code."""
+    return first_fault(thing) is None
+
+
+def code_inputs(code):
+    """Return the ascending list of the names of the inputs of a code."""
+    check_code(code)
+    return sorted(set([instruction[2] for instruction in code if instruction[0] == "input"]))
+
+
+def code_outs(code):
+    """Return the ascending list of the output numbers of a code."""
+    check_code(code)
+    return sorted([instruction[1] for instruction in code if instruction[0] == "out"])
+
+
+def check_code(thing):
+    """Raise BadCode for what is no code."""
+    at = first_fault(thing)
+    if at is not None:
+        raise BadCode(at)
+
+
+def first_fault(thing):
+    """Return the index of the first wrong instruction, -1 for what is wrong as a whole, None for a code."""
+    if not isinstance(thing, tuple) or not 1 <= len(thing) <= MOST_INSTRUCTIONS:
+        return -1
+    counters = []
+    told = []
+    for at, instruction in enumerate(thing):
+        if not is_instruction(instruction) or breaks_rule(instruction, counters, told):
+            return at
+        if instruction[0] == "loop":
+            counters.append(instruction[1])
+        elif instruction[0] == "again":
+            counters.pop()
+        elif instruction[0] == "out":
+            told.append(instruction[1])
+    return -1 if counters else None
+
+
+def is_instruction(thing):
+    """Tell whether a thing is an instruction, wherever it stands."""
+    if not isinstance(thing, tuple) or not thing or not isinstance(thing[0], str) or thing[0] not in FORMS:
+        return False
+    form = FORMS[thing[0]]
+    if len(thing) != len(form) + 1:
+        return False
+    return all([is_operand(kind, operand) for kind, operand in zip(form, thing[1:])])
+
+
+def is_operand(kind, thing):
+    """Tell whether a thing is an operand of this kind."""
+    if kind == "name":
+        return is_name(thing)
+    if kind == "number":
+        return is_set_number(thing)
+    if kind == "shift":
+        return is_shift(thing)
+    return is_integer(thing) and 0 <= thing < ENDS[kind]
+
+
+def breaks_rule(instruction, counters, told):
+    """Tell whether an instruction may not stand within loops with these counters, behind these outputs."""
+    word = instruction[0]
+    if word == "again":
+        return not counters
+    if word == "loop":
+        return len(counters) == MOST_LOOPS or instruction[1] in counters
+    if word == "out":
+        return bool(counters) or instruction[1] in told
+    return FORMS[word][0] == "written" and instruction[1] in counters
