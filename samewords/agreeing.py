@@ -3,12 +3,11 @@
 from samewords.checks import check_width, is_integer, is_row
 from samewords.errors import BadClass, BadFormula, TooMany
 from samewords.formulas import check_callless, index_names
-from samewords.meaning import is_small_pair
 from samewords.picks import box_rows
 from samewords.polynomials import in_class, in_picks, polynomial_of_pair, twos_within, word_of_polynomial
+from samewords.verdicts import check_pair
 
 MOST_CLASSES = 300
-KINDS = ("full", "apart", "steady")
 
 
 def profile(one, other, width):
@@ -79,9 +78,7 @@ def difference_of(one, other, width):
     """Return the polynomial of the difference, or raise the errors of all functions here."""
     check_sumless(one)
     check_sumless(other)
-    check_width(width)
-    if not is_small_pair(one, other):
-        raise TooMany()
+    check_pair(one, other, width)
     return polynomial_of_pair(one, other, width)
 
 
@@ -105,10 +102,11 @@ def is_class(thing, width, inputs):
 
 
 def is_told_class(thing, width, inputs):
-    """Tell whether a thing is a tuple of the two things of a class, a kind that is not split, and a v."""
-    if not isinstance(thing, tuple) or len(thing) != 4 or not is_class(thing[:2], width, inputs):
+    """Tell whether a thing is a tuple of the two things of a class, of some kind, and of a v."""
+    if not isinstance(thing, tuple) or len(thing) != 4:
         return False
-    return isinstance(thing[2], str) and thing[2] in KINDS and is_integer(thing[3])
+    # A class that is split has no integer as its v.
+    return is_class(thing[:2], width, inputs) and is_integer(thing[3])
 
 
 def kind_of(difference, power, residues):
@@ -170,14 +168,16 @@ def counted(width, inputs, met):
 def is_parting(width, inputs, parts):
     """Tell whether each input is in just one of these classes."""
     met = {part: True for part in parts}
+    whole = sum([1 << (inputs * (width - power)) for power, _ in parts])
+    if len(met) != len(parts) or whole != 1 << (inputs * width):
+        return False
     powers = sorted(set([power for power, _ in parts]))
     # Classes of two powers have no input in common, or the one of the higher power is within the other.
     for power, residues in parts:
         for lower in powers:
             if lower < power and (lower, lowest_bits(residues, lower)) in met:
                 return False
-    whole = sum([1 << (inputs * (width - power)) for power, _ in parts])
-    return len(met) == len(parts) and whole == 1 << (inputs * width)
+    return True
 
 
 def lowest_bits(numbers, many):

@@ -41,6 +41,13 @@ def is_shift(thing):
     return is_integer(thing) and 0 <= thing <= MOST_SHIFT
 
 
+def head_word(thing):
+    """Return the string that a tuple begins with, None for what is no such tuple."""
+    if not isinstance(thing, tuple) or not thing or not isinstance(thing[0], str):
+        return None
+    return thing[0]
+
+
 def is_told_input(thing, names, width):
     """Tell whether a thing is a dict that gives a word for just these names."""
     if not isinstance(thing, dict) or len(thing) != len(names):

@@ -1,6 +1,6 @@
 """Codes: rows of instructions of the machine, and what is wrong with what is none."""
 
-from samewords.checks import is_integer, is_name, is_set_number, is_shift
+from samewords.checks import is_integer, is_name, is_set_number, is_shift, head_word
 from samewords.errors import BadCode
 
 MOST_INSTRUCTIONS = 2000
@@ -57,12 +57,10 @@ def first_fault(thing):
 
 def is_instruction(thing):
     """Tell whether a thing is an instruction, wherever it stands."""
-    if not isinstance(thing, tuple) or not thing or not isinstance(thing[0], str) or thing[0] not in FORMS:
+    word = head_word(thing)
+    if word not in FORMS or len(thing) != len(FORMS[word]) + 1:
         return False
-    form = FORMS[thing[0]]
-    if len(thing) != len(form) + 1:
-        return False
-    return all([is_operand(kind, operand) for kind, operand in zip(form, thing[1:])])
+    return all([is_operand(kind, operand) for kind, operand in zip(FORMS[word], thing[1:])])
 
 
 def is_operand(kind, thing):

@@ -1,6 +1,7 @@
 """Flows: rows of single operations, and the flow that a plain program is."""
 
-from samewords.checks import check_values, check_width, is_integer, is_name, is_row, is_set_number, is_shift
+from samewords.checks import (check_values, check_width, is_integer, is_name, is_row, is_set_number, is_shift,
+                              head_word)
 from samewords.errors import BadNumber, BadValues, BadWants, HasSum, TooMany
 from samewords.formulas import Name, Number, index_names
 from samewords.plain import laid_plain
@@ -41,7 +42,7 @@ class Flow:
                     needed[one] = True
         made = {}
         for at in sorted(needed):
-            made[at] = made_formula(self.operations[at], made)
+            made[at] = formula_of_operation(self.operations[at], made)
         return made[number]
 
     def words(self, width, values):
@@ -71,12 +72,10 @@ def check_operations(values):
 
 def is_operation(thing, many):
     """Tell whether a thing is an operation on some of so many values ahead of it."""
-    if not isinstance(thing, tuple) or not thing or not isinstance(thing[0], str) or thing[0] not in FORMS:
+    word = head_word(thing)
+    if word not in FORMS or len(thing) != len(FORMS[word]) + 1:
         return False
-    form = FORMS[thing[0]]
-    if len(thing) != len(form) + 1:
-        return False
-    return all([is_operand(kind, operand, many) for kind, operand in zip(form, thing[1:])])
+    return all([is_operand(kind, operand, many) for kind, operand in zip(FORMS[word], thing[1:])])
 
 
 def is_operand(kind, thing, many):
@@ -112,43 +111,36 @@ def check_wants(wants, many):
 
 def arguments_of(operation):
     """Return the list of the numbers of the values that an operation works on."""
-    form = FORMS[operation[0]]
-    return [operand for kind, operand in zip(form, operation[1:]) if kind == "value"]
+    return [operand for kind, operand in zip(FORMS[operation[0]], operation[1:]) if kind == "value"]
 
 
-def made_formula(operation, made):
+def formula_of_operation(operation, made):
     """Return the formula of an operation, where made has those of its arguments."""
-    word = operation[0]
-    if word == "input":
+    if operation[0] == "input":
         return Name(operation[1])
-    if word == "set":
+    if operation[0] == "set":
         return Number(operation[1])
+    return operated(operation, made)
+
+
+def word_of_operation(operation, words, values):
+    """Return the word of an operation, not yet modulo, where words has those of its arguments."""
+    if operation[0] == "input":
+        return values[operation[1]]
+    if operation[0] == "set":
+        return operation[1]
+    return operated(operation, words)
+
+
+def operated(operation, made):
+    """Return what an operation makes of its arguments, integers or formulas; made has them by their numbers."""
+    word = operation[0]
     one = made[operation[1]]
     if word == "neg":
         return -one
     if word == "shl":
         return one << operation[2]
     other = made[operation[2]]
-    if word == "add":
-        return one + other
-    if word == "sub":
-        return one - other
-    return one * other
-
-
-def word_of_operation(operation, words, values):
-    """Return the word of an operation, not yet modulo, where words has those ahead of it."""
-    word = operation[0]
-    if word == "input":
-        return values[operation[1]]
-    if word == "set":
-        return operation[1]
-    one = words[operation[1]]
-    if word == "neg":
-        return -one
-    if word == "shl":
-        return one << operation[2]
-    other = words[operation[2]]
     if word == "add":
         return one + other
     if word == "sub":

@@ -323,6 +323,12 @@ class Walks(Case):
         bad(paper[1:] + [(2, (0,), "apart", 0)])
         bad(paper + [(2, (0,), "apart", 0)])
         bad(paper[1:] + [(2, (0,), "apart", 0), (2, (0,), "apart", 0)])
+        # As many inputs as there are, but those of one class are in another one, too, and others in none.
+        bad(paper[:1] + [(2, (0,), "apart", 0), (2, (2,), "apart", 0)])
+        bad([(2, (2,), "apart", 0), (2, (0,), "apart", 0)] + paper[:1])
+        bad(paper[1:2] + [(3, (1,), "steady", 4), (3, (5,), "apart", 3), (2, (3,), "steady", 3), (2, (0,), "apart", 0)])
+        bad(paper[:2] + [(3, (2,), "apart", 0), (3, (6,), "apart", 0)])
+        good(paper[2:] + [(3, (1,), "steady", 4), (3, (5,), "apart", 3), (2, (0,), "apart", 0), (2, (2,), "apart", 0)])
         bad([(0, (0,), "split", None)])
         bad([(0, (0, 0), "steady", 0)])
         bad([])

@@ -66,6 +66,7 @@ class Codes(Case):
             if not is_right_name(name):
                 self.one_is_wrong(("input", 0, name))
         self.right(("input", 0, "abcdefgh"))
+        self.right(("input", 0, "again"), ("input", 1, "loop"), ("input", 2, "input"))
 
     def test_no_tuple_of_1_to_2000(self):
         for thing in any_things():

@@ -204,6 +204,7 @@ class Lean(Case):
         high = (X * X) - (X * X) + X + N
         self.lean([("a", high), ("b", X + N), ("c", N + X)], ["a", "b", "c"], [("a", high), ("b", X + N), ("c", B)])
         self.lean([("a", high), ("b", N + X + X * X - X * X)], ["a", "b"], [("a", high), ("b", A)])
+        self.lean([("a", X * X + N - N), ("b", X * X)], ["a", "b"], [("a", X * X + N - N), ("b", X * X)])
         # The degrees are those that stand once the constant lets are numbers.
         self.lean([("k", X - X), ("a", (N + N) * (Name("k") + Number(1))), ("b", N << 1)], ["a", "b"],
                   [("a", (N + N) * (Number(0) + Number(1))), ("b", A)])

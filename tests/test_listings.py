@@ -100,7 +100,7 @@ class Reading(Case):
 
     def test_defs(self):
         self.bad_row(4, "def f(p) = ", "def f(p)", "def f() = 3", "def f = 3", "def f(p, q, r, s, t) = 3", "def f(p,q) = 3",
-                     "def f(p ,q) = 3", "def f(p) = q q", "def f(p)= 3", "def f(p) =3", "def (p) = 3", "def f(p = 3",
+                     "def f(p ,q) = 3", "def f(p) = q q", "def f(p)= 3", "def f(p) =3", "def (p) = 3", "def f(p = 3", "def f(px = 3", "def f(p x = 3",
                      "def fp) = 3", "def f((p)) = 3", "def f(p)) = 3", "def f(p) x = 3", "def f(p) = 3 = 4", "def f (p) = 3",
                      "def sum(p) = 3", "def f(sum) = 3", "def f(p, if) = 3", "def f(p,) = 3", "def f(p, ) = 3",
                      "def f(3) = 3", "def abcdefghi(p) = 3", "def f(p) = if p = p then p else p", "def f[p] = 3",
@@ -110,7 +110,7 @@ class Reading(Case):
     def test_lets(self):
         self.bad_row(7, "let b", "let b =", "let b = ", "let = x", "let b x", "let b = x y", "let b= x", "let b =x",
                      "let let = x", "let B = x", "let abcdefghi = x", "let b = x = x", "let b = (let + x)",
-                     "let b = sum(n, n, x)", "let b = " + "(- " * 40 + "x" + ")" * 40, "let b = 01")
+                     "let b = sum(n, n, x)", "Let b = x", "lets b = x", "b = x", "let b = " + "(- " * 40 + "x" + ")" * 40, "let b = 01")
         good = "let b = " + "(- " * 39 + "x" + ")" * 39
         self.assertEqual(read_program("\n".join(self.changed(7, good))).lets[1][1].depth, 40)
 
