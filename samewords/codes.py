@@ -1,6 +1,6 @@
 """Codes: rows of instructions of the machine, and what is wrong with what is none."""
 
-from samewords.checks import is_integer, is_name, is_set_number, is_shift, head_word
+from samewords.checks import head_word, is_integer, is_name, is_set_number, is_shift
 from samewords.errors import BadCode
 
 MOST_INSTRUCTIONS = 2000

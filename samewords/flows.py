@@ -1,7 +1,7 @@
 """Flows: rows of single operations, and the flow that a plain program is."""
 
-from samewords.checks import (check_values, check_width, is_integer, is_name, is_row, is_set_number, is_shift,
-                              head_word)
+from samewords.checks import (check_values, check_width, head_word, is_integer, is_name, is_row, is_set_number,
+                              is_shift)
 from samewords.errors import BadNumber, BadValues, BadWants, HasSum, TooMany
 from samewords.formulas import Name, Number, index_names
 from samewords.plain import laid_plain
