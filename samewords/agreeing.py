@@ -13,7 +13,7 @@ MOST_CLASSES = 300
 def profile(one, other, width):
     """Return the list that tells for each k at how many inputs the lowest k bits agree."""
     found = difference_of(one, other, width)
-    return counted(width, len(found.names), walked(found))
+    return counted(width, len(found.inputs), walked(found))
 
 
 def verdict(one, other, width):
@@ -33,7 +33,7 @@ def nearest(one, other, width):
 def class_kind(one, other, width, thing):
     """Return the tuple (kind, v) of a class."""
     found = difference_of(one, other, width)
-    if not is_class(thing, width, len(found.names)):
+    if not is_class(thing, width, len(found.inputs)):
         raise BadClass(thing)
     return kind_of(found, thing[0], thing[1])
 
@@ -46,7 +46,7 @@ def class_paper(one, other, width):
 def is_class_paper(one, other, width, thing):
     """Tell whether a thing is a class paper for two formulas."""
     found = difference_of(one, other, width)
-    inputs = len(found.names)
+    inputs = len(found.inputs)
     if not is_row(thing) or not all([is_told_class(item, width, inputs) for item in thing]):
         return False
     if not is_parting(width, inputs, [(item[0], item[1]) for item in thing]):
@@ -68,9 +68,9 @@ def meets(one, other, width):
     found = difference_of(one, other, width)
     for power, residues, kind, agreed in walked(found):
         if kind == "full":
-            return dict(zip(found.names, residues))
+            return dict(zip(found.inputs, residues))
         if kind == "steady":
-            return dict(zip(found.names, first_in_steady(found, power, residues, agreed)))
+            return dict(zip(found.inputs, first_in_steady(found, power, residues, agreed)))
     return None
 
 
@@ -132,7 +132,7 @@ def kind_of(difference, power, residues):
 
 def walked(difference):
     """Return the list of the tuples of the classes that are not split, ordered by the lowest bits."""
-    inputs = len(difference.names)
+    inputs = len(difference.inputs)
     bits = box_rows([2] * inputs)
     waiting = [(0, (0,) * inputs)]
     met = 1

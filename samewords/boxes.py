@@ -46,16 +46,21 @@ def are_box_ends(thing, least, width):
 
 
 def are_same_words(thing, words):
-    """Tell whether a thing is a dict with the rows and the words of a dict, no flag among them."""
+    """Tell whether a thing is a dict with the rows and the words, or rows of words, of a dict, no flag among them."""
     if not isinstance(thing, dict) or len(thing) != len(words):
         return False
     for row, word in thing.items():
         # A flag is equal to a number, so that it would be found as a key and as a word.
-        if not isinstance(row, tuple) or not all([is_integer(number) for number in row]):
+        if not is_integer_tuple(row) or not (is_integer(word) or is_integer_tuple(word)):
             return False
-        if not is_integer(word) or word != words.get(row):
+        if word != words.get(row):
             return False
     return True
+
+
+def is_integer_tuple(thing):
+    """Tell whether a thing is a tuple of integers."""
+    return isinstance(thing, tuple) and all([is_integer(number) for number in thing])
 
 
 def is_apart(one, other, width, thing):

@@ -1,7 +1,7 @@
 """Codes: rows of instructions of the machine, and what is wrong with what is none."""
 
 from samewords.checks import head_word, is_integer, is_name, is_set_number, is_shift
-from samewords.errors import BadCode
+from samewords.errors import BadCode, BadPlace
 
 MOST_INSTRUCTIONS = 2000
 MOST_LOOPS = 3
@@ -21,13 +21,48 @@ def is_code(thing):
 def code_inputs(code):
     """Return the ascending list of the names of the inputs of a code."""
     check_code(code)
-    return sorted(set([instruction[2] for instruction in code if instruction[0] == "input"]))
+    return names_in(code)
 
 
 def code_outs(code):
     """Return the ascending list of the output numbers of a code."""
     check_code(code)
     return sorted([instruction[1] for instruction in code if instruction[0] == "out"])
+
+
+def names_in(instructions):
+    """Return the ascending list of the names in the input instructions of a code, or of a part of one."""
+    return sorted(set([instruction[2] for instruction in instructions if instruction[0] == "input"]))
+
+
+def registers_read(instruction):
+    """Return the list of the registers that an instruction reads, from left to right."""
+    return [operand for kind, operand in zip(FORMS[instruction[0]], instruction[1:]) if kind == "read"]
+
+
+def loop_ends(code):
+    """Return the dict from the indexes of the loops of a code to those of their agains."""
+    waiting = []
+    ends = {}
+    for at, instruction in enumerate(code):
+        if instruction[0] == "loop":
+            waiting.append(at)
+        elif instruction[0] == "again":
+            ends[waiting.pop()] = at
+    return ends
+
+
+def check_place(code, thing):
+    """Raise BadPlace for what is no index of a code, or its end, that stands outside all loops."""
+    check_index(code, thing)
+    if any([begin < thing <= end for begin, end in loop_ends(code).items()]):
+        raise BadPlace(thing)
+
+
+def check_index(code, thing):
+    """Raise BadPlace for what is neither the index of an instruction of a code nor its end."""
+    if not is_integer(thing) or not 0 <= thing <= len(code):
+        raise BadPlace(thing)
 
 
 def check_code(thing):

@@ -27,12 +27,7 @@ def programs_alike(one, other):
 
 def programs_apart(one, other):
     """Return the least input of both at which some out differs, or None."""
-    pairs = tables_of_outs(one, other)
-    names = inputs_of_both(one, other)
-    picks = [pick for pair in pairs for pick in unlike_picks(pair[0], pair[1], names)]
-    if not picks:
-        return None
-    return dict(zip(names, in_order(picks)[0]))
+    return least_unlike(tables_of_outs(one, other), inputs_of_both(one, other))
 
 
 def is_programs_apart(one, other, thing):
@@ -98,6 +93,25 @@ def tables_of_outs(one, other):
 def inputs_of_both(one, other):
     """Return the ascending list of the inputs of two programs."""
     return sorted(set(one.inputs + other.inputs))
+
+
+def have_same_shape(one, other):
+    """Tell whether two programs have the same width, and the same inputs and outs in the same order."""
+    return one.width == other.width and one.inputs == other.inputs and one.outs == other.outs
+
+
+def out_tables(program):
+    """Return the list of the tables of the outs of a program, or raise the errors of tables."""
+    found = tables(program)
+    return [found[name] for name in program.outs]
+
+
+def least_unlike(pairs, names):
+    """Return the least input of these names at which the two tables of some pair differ, or None."""
+    picks = [pick for pair in pairs for pick in unlike_picks(pair[0], pair[1], names)]
+    if not picks:
+        return None
+    return dict(zip(names, in_order(picks)[0]))
 
 
 def unlike_picks(one, other, names):

@@ -12,11 +12,11 @@ from samewords.verdicts import names_of_pair, twos
 
 
 class Polynomial:
-    """A polynomial in some names: a number for each row of exponents below the sizes."""
+    """A polynomial in some inputs: a number for each row of exponents below the sizes."""
 
-    def __init__(self, width, names, sizes, numbers):
+    def __init__(self, width, inputs, sizes, numbers):
         self.width = width
-        self.names = names
+        self.inputs = inputs
         self.sizes = sizes
         self.numbers = numbers
 

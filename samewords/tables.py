@@ -196,9 +196,14 @@ def table_of_sum(formula, width, known):
     inner = table_of_small(body, width, known)
     if below.kind == "name":
         return inner.sum_below(index, below.things[0])
+    return sum_below_number(inner, index, below.things[0])
+
+
+def sum_below_number(given, index, number):
+    """Return the table of the sum of a table for index = 0, 1 .. below a number, taken modulo 2 ** width."""
     # A number as the bound adds nothing to the degrees, so that no C(n, 13) may stand here as a row.
-    number = below.things[0] & ((1 << width) - 1)
-    return weighed(inner, index, [comb(number, at + 1) for at in range(MOST_DEGREE + 1)])
+    many = number & ((1 << given.width) - 1)
+    return weighed(given, index, [comb(many, at + 1) for at in range(MOST_DEGREE + 1)])
 
 
 def table_of_box(width, inputs, ends, words):

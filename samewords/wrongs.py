@@ -13,12 +13,12 @@ MOST_OUTS = 8
 class Place:
     """Where a formula of a program stands: what it may name there."""
 
-    def __init__(self, names, bounds, flags, barred):
-        """names may be its inputs, bounds those that bound sums, barred are no indexes.
+    def __init__(self, free, bounds, flags, barred):
+        """free may be its inputs, bounds those that bound sums, barred are no indexes.
 
         flags are those of parameter_flags, for each def that may be called.
         """
-        self.names = names
+        self.free = free
         self.bounds = bounds
         self.flags = flags
         self.barred = barred
@@ -152,7 +152,7 @@ def wrong_out(outs, names):
 
 def fits(formula, place):
     """Tell whether a formula may stand at its place."""
-    if not all([name in place.names for name in formula.input_names()]):
+    if not all([name in place.free for name in formula.input_names()]):
         return False
     return fits_within(formula, place, ())
 

@@ -5,16 +5,20 @@ import itertools
 import random
 import unittest
 
+from samewords.desks import Desk
 from samewords.errors import SameError
 from samewords.flows import Flow
 from samewords.formulas import Call, Formula, Name, Number, Sum
+from samewords.machine import Machine
 from samewords.programs import Choice, Program
+from samewords.reports import Report
 from samewords.tables import Table
 
 WORDS = ("width", "in", "def", "let", "if", "then", "else", "out", "sum")
 X = Name("x")
 Y = Name("y")
 CALL = Call("f", [X])
+CODE = (("input", 0, "x"), ("out", 0, 0))
 
 
 def nested(deep):
@@ -30,7 +34,8 @@ def any_things():
             "x1", "~" * 10, [], ["x"], [X], (), ("x",), (1,), (X,), {}, {"x": 1}, {(1,): 1}, {1: {2: []}},
             nested(20), ({"x": [(None,)]},), Number(3), X, CALL, X + CALL, Sum("i", Number(3), X),
             Table(8, ("x",), {(1,): 1}), Choice(X, X, X, X), Program(8, ("x",), (), (), ("x",)), SameError(),
-            Flow([("input", "x")], [0])]
+            Flow([("input", "x")], [0]), CODE, list(CODE), Machine(CODE, 8, {"x": 1}), Desk(),
+            Report(Program(8, ("x",), (), (), ("x",)), [], CODE)]
 
 
 def large_things():
@@ -74,6 +79,11 @@ def not_tables():
 
 def not_programs():
     return [thing for thing in any_things() if not isinstance(thing, Program)]
+
+
+def not_codes():
+    """Things that are no codes, but no tuples either: their fault is -1."""
+    return [thing for thing in any_things() if not isinstance(thing, tuple) or not thing]
 
 
 def not_rows():

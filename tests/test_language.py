@@ -26,7 +26,18 @@ INTERFACE = {
     "agreeing": "profile verdict nearest class_kind class_paper is_class_paper profile_of meets",
     "texts": "write_formula read_formula", "listings": "write_program read_program", "flows": "Flow flow_of",
     "orders": "is_order held need laying crowd is_laying is_crowd", "floors": "fewest best_order floor is_floor",
-    "codes": "is_code code_inputs code_outs"}
+    "codes": "is_code code_inputs code_outs", "codetexts": "write_code read_code", "machine": "Machine go_code",
+    "reading": "read_back",
+    "right": "is_right wrong_input is_wrong_input right_paper is_right_paper", "coding": "code_of_order code_of",
+    "passes": "passed program_paper is_program_paper", "reports": "Report compiled",
+    "rests": "rests_alike rest_input carried", "desks": "Desk"}
+METHODS = {
+    "Formula": "input_names bound_names with_input __add__ __sub__ __mul__ __lshift__ __neg__ __eq__",
+    "Table": "rows degree sum_below with_word word_at __add__ __sub__ __mul__ __lshift__ __neg__ __eq__",
+    "Program": "laid __eq__", "Choice": "__eq__", "Flow": "__len__ input_names uses formula words __eq__",
+    "Machine": "registers slots outputs step back go go_to placed",
+    "Report": "fault holds papers is_papers __eq__",
+    "Desk": "put drop exchange make undo names program_of report_of machine_of families trying"}
 
 
 def trees():
@@ -58,7 +69,7 @@ class Language(unittest.TestCase):
     def test_functions(self):
         for name, node in nodes(ast.FunctionDef):
             self.assertLessEqual(node.end_lineno - node.lineno + 1, 40, (name, node.name))
-            self.assertEqual(node.decorator_list, [])
+            self.assertTrue(all(isinstance(one, ast.Name) and one.id == "property" for one in node.decorator_list))
             if node.name.startswith("__"):
                 self.assertIn(node.name, SPECIAL)
 
@@ -94,8 +105,13 @@ class Language(unittest.TestCase):
 
     def test_own_errors_alone_are_caught(self):
         for name, node in nodes(ast.Try):
-            self.assertEqual([handler.type.id for handler in node.handlers], ["SameError"], name)
-            self.assertEqual(node.orelse + node.finalbody, [], name)
+            self.assertEqual(node.orelse, [], name)
+            self.assertTrue(all(handler.type.id == "SameError" for handler in node.handlers), name)
+            # Behind an error that is passed on, attributes are given back what a plain name held, nothing else.
+            for one in node.finalbody:
+                self.assertIsInstance(one, ast.Assign, name)
+                self.assertIsInstance(one.targets[0], ast.Attribute, name)
+                self.assertIsInstance(one.value, ast.Name, name)
 
     def test_what_is_read_at_module_level_is_not_changed(self):
         for path, tree in trees().items():
@@ -139,6 +155,17 @@ class Language(unittest.TestCase):
             tree = ast.parse((FOLDER / (module + ".py")).read_text())
             defined = {node.name for node in tree.body if isinstance(node, (ast.FunctionDef, ast.ClassDef))}
             self.assertTrue(set(names.split()) <= defined, module)
+
+    def test_methods_stand_in_their_classes(self):
+        found = {node.name: {one.name for one in node.body if isinstance(one, ast.FunctionDef)}
+                 for _, node in nodes(ast.ClassDef)}
+        for name, methods in METHODS.items():
+            self.assertTrue(set(methods.split()) <= found[name], name)
+
+    def test_no_name_is_a_method_and_an_attribute(self):
+        methods = {one.name for _, node in nodes(ast.ClassDef) for one in node.body if isinstance(one, ast.FunctionDef)}
+        attributes = {node.attr for _, node in nodes(ast.Attribute) if isinstance(node.ctx, ast.Store)}
+        self.assertEqual(methods & attributes, set())
 
     def test_no_file_imports_itself_by_others(self):
         imports = {path.stem: {node.module.split(".")[1] for node in ast.walk(tree) if isinstance(node, ast.ImportFrom)
