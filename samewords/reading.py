@@ -34,6 +34,7 @@ class Reader:
     """How far a reading has come: what stands in the cells, the loops that are open, and what was told."""
 
     def __init__(self, code, width, cells):
+        """cells is a list or a dict that has the contents of all cells that are met."""
         self.code = code
         self.width = width
         self.cells = cells
@@ -53,8 +54,22 @@ def read_back(code, width):
 
 def read_rest(code, place, width):
     """Return the dict from the output numbers that a code tells from a place on to tables."""
-    cells = [Content(None, table_of_name(width, name)) for name in cell_names()]
+    names = cell_names()
+    cells = {cell: Content(None, table_of_name(width, names[cell])) for cell in cells_met(code[place:])}
     return read_from(code, place, width, cells)
+
+
+def cells_met(instructions):
+    """Return the list of the registers and the slots that some instructions read or write."""
+    met = {}
+    for one in instructions:
+        for place in registers_read(one):
+            met[place] = True
+        if one[0] == "load":
+            met[moved_cell(one)] = True
+        if one[0] not in ("again", "out"):
+            met[written_cell(one)] = True
+    return list(met)
 
 
 def new_indexes_for(code):
