@@ -19,10 +19,8 @@ def cell_of_output(number):
 
 
 def written_cell(instruction):
-    """Return the cell that an instruction writes, None for an again; a loop writes its counter."""
+    """Return the cell that an instruction writes, no again; a loop writes its counter."""
     word = instruction[0]
-    if word == "again":
-        return None
     if word == "store":
         return cell_of_slot(instruction[1])
     if word == "out":

@@ -46,7 +46,6 @@ def carried(machine, other, place):
     """Return a machine that goes on with another code, and tells what the machine would tell."""
     check_code(other)
     check_place(machine.code, machine.at)
-    check_place(other, place)
     moved = machine.placed(other, place)
     found = rest_input(machine.code, machine.at, other, place, machine.width)
     if found is not None:

@@ -248,6 +248,14 @@ class OfPrograms(Case):
         all_of_them = together([Name(let_name(at)) for at in range(59)])
         self.fails(TooMany, None, code_of, self.program(*many, all_of_them, outs=["lch"]), 2)
         self.fails(BadCount, 1, code_of, self.program(*many, all_of_them, outs=["lch"]), 1)
+        # One more negation is one more instruction.
+        less = many[:3] + [X] * 56 + [all_of_them]
+        more = 2000 - len(code_of(self.program(*less, outs=["lch"]), 2))
+        for at in range(more):
+            less[3 + at % 56] = -less[3 + at % 56]
+        self.assertEqual(len(self.right(self.program(*less, outs=["lch"]), 2)), 2000)
+        less[0] = -less[0]
+        self.fails(TooMany, None, code_of, self.program(*less, outs=["lch"]), 2)
         # What nobody uses is not needed.
         self.right(self.program(*many, all_of_them, outs=["lca"]), 2)
 

@@ -371,6 +371,15 @@ class Placing(Case):
         again = placed.placed((("set", 0, 0),), 0).placed(other, 3).placed(self.CODE, 0)
         self.assertEqual(again.go(), {0: 6, 1: 4, 7: 4})
 
+    def test_loops_of_the_other_code(self):
+        """Loops are left out, and done, by the code that it goes on with."""
+        other = (("loop", 1, 9), ("add", 2, 2, 0), ("add", 2, 2, 0), ("add", 2, 2, 0), AGAIN, ("loop", 1, 0), ("add", 2, 2, 1), AGAIN,
+                 ("loop", 3, 9), AGAIN, ("out", 5, 2))
+        machine = Machine(self.CODE, 8, {"x": 4})
+        machine.step()
+        self.assertEqual(machine.placed(other, 0).go(), {5: 6})
+        self.assertEqual(machine.go(), {0: 6, 1: 4})
+
     def test_placed_again_and_again(self):
         machine = Machine(self.CODE, 8, {"x": 4})
         machine.go_to(2)

@@ -129,6 +129,14 @@ class Reports(Case):
         for thing in any_things() + large_things():
             self.assertIs(report.is_papers([PAPER, thing, PAPER]), False)
 
+    def test_a_fault_has_no_papers(self):
+        """Not even those of the steps and of the code each by itself."""
+        doubled = (ENDS, {row: (2 * told[0], told[1]) for row, told in WORDS.items()})
+        self.assertEqual(right_paper(WRONG, code_of(WRONG, 3)), doubled)
+        for steps, code, papers in (([WRONG], code_of(WRONG, 3), [doubled, doubled]), ([SECOND], code_of(WRONG, 3), [PAPER, doubled]),
+                                    ([WRONG, SECOND], CODE, [doubled, PAPER, PAPER])):
+            self.assertIs(Report(FIRST, steps, code).is_papers(papers), False)
+
     def test_boxes_of_more_than_400_rows(self):
         made = lambda many: Program(64, ("x", "y", "z"), (), [("a", big_power("x", 7)), ("b", big_power("y", 4)),
                                                               ("c", big_power("z", many))], ["a", "b", "c"])

@@ -123,9 +123,12 @@ class Right(Case):
         code = changed(1, ("input", 1, "n"))
         self.assertIs(is_wrong_input(PROGRAM, code, (0, {"x": 7, "n": 3})), True)
         self.assertIs(is_wrong_input(PROGRAM, CODE, (0, {"x": 0, "n": 2})), False)
+        second = changed(7, ("out", 1, 1))
+        self.assertIs(is_wrong_input(PROGRAM, second, (1, {"x": 0, "n": 2})), True)
+        self.assertIs(is_wrong_input(PROGRAM, second, (-1, {"x": 0, "n": 2})), False)
         for thing in any_things() + large_things() + [
                 [0, {"x": 0, "n": 2}], (0, {"x": 0, "n": 2}, 0), (0,), (1, {"x": 0, "n": 2}), (2, {"x": 0, "n": 2}),
-                (-2, {"x": 0, "n": 2}), (False, {"x": 0, "n": 2}), (0, {"n": 2}), (0, {"x": 0, "n": 2, "y": 0}), (0, {"x": 2, "n": 2}),
+                (-1, {"x": 0, "n": 2}), (-2, {"x": 0, "n": 2}), (False, {"x": 0, "n": 2}), (0, {"n": 2}), (0, {"x": 0, "n": 2, "y": 0}), (0, {"x": 2, "n": 2}),
                 (0, {"x": 0, "n": 258}), (0, {"x": False, "n": 2}), (0, {"x": 0, "n": None}), (0, [("x", 0), ("n", 2)]), (None, None),
                 ("0", {"x": 0, "n": 2}), (10 ** 5000, {"x": 0, "n": 2}), (0, {"x": 0, "y": 2}), (0, None), ({"x": 0, "n": 2}, 0)]:
             self.assertIs(is_wrong_input(PROGRAM, code, thing), False)
