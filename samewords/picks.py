@@ -81,13 +81,17 @@ def cleaned(width, names, rows):
 def added(names, rows, other_names, other_rows, sign):
     """Return names and rows of the sum, or of the difference if sign is -1, of two tables."""
     both = sorted(set(list(names) + list(other_names)))
-    found = {}
-    for pick, word in rows:
-        found[lifted(names, pick, both)] = word
-    for pick, word in other_rows:
-        wide = lifted(other_names, pick, both)
-        found[wide] = found.get(wide, 0) + sign * word
+    found = {pick: word for pick, word in lifted_rows(names, rows, both)}
+    for pick, word in lifted_rows(other_names, other_rows, both):
+        found[pick] = found.get(pick, 0) + sign * word
     return both, found
+
+
+def lifted_rows(names, rows, wanted):
+    """Return the list of the rows with their picks for the wanted names."""
+    if list(names) == list(wanted):
+        return list(rows)
+    return [(lifted(names, pick, wanted), word) for pick, word in rows]
 
 
 def lifted(names, pick, wanted):

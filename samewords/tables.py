@@ -19,11 +19,10 @@ class Table:
         check_inputs(inputs)
         check_picks(width, len(inputs), rows)
         names, kept = cleaned(width, inputs, rows)
-        if len(kept) > MOST_ROWS or any([max(pick, default=0) > MOST_DEGREE for pick in kept]):
-            raise TooMany()
+        check_few(kept)
         self.width = width
         self.inputs = names
-        self._rows = tuple([(pick, kept[pick]) for pick in in_order(kept)])
+        self._rows = ordered_rows(kept)
 
     def rows(self):
         """Return the list of the tuples (pick, word), by the sum of the pick, then by the pick."""
@@ -125,12 +124,28 @@ def check_same_width(one, other):
         raise BadTable(other)
 
 
+def check_few(kept):
+    """Raise TooMany for more rows than a table has, or for a number that is too great."""
+    if len(kept) > MOST_ROWS or any([max(pick, default=0) > MOST_DEGREE for pick in kept]):
+        raise TooMany()
+
+
+def ordered_rows(kept):
+    """Return the tuple of the picks with their words, by the sum of the pick, then by the pick."""
+    return tuple([(pick, kept[pick]) for pick in in_order(kept)])
+
+
 def made(width, names, rows):
     """Return the table of names and rows, some of which may not be wanted, or raise TooMany."""
     used, kept = cleaned(width, names, rows)
     if len(used) > MOST_INPUTS:
         raise TooMany()
-    return Table(width, used, kept)
+    check_few(kept)
+    # The names and the picks come from tables, so that they are not asked for again.
+    found = Table(width, (), {})
+    found.inputs = used
+    found._rows = ordered_rows(kept)
+    return found
 
 
 def joined(one, other, sign):
